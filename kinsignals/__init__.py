@@ -1,0 +1,1 @@
+"""Kinsignals: families that fork, wait, and are called by signals."""

@@ -1,0 +1,138 @@
+"""The form of the package: what of the language's rules can be seen file by file."""
+
+import ast
+import builtins
+import pathlib
+import re
+import unittest
+
+FOLDER = pathlib.Path(__file__).resolve().parent.parent / "kinsignals"
+FILES = sorted(FOLDER.glob("*.py"))
+
+# What the interface lists, and the file under which it lists it.
+INTERFACE = {
+    "errors": (
+        "KinError", "NoTitle", "NoOne", "NoSession", "NoText", "NoBook", "NoTyped", "NoEntry", "NoScript", "TooMany",
+        "NoLine", "NoHouse",
+    ),
+    "signals": ("SIGNALS",),
+    "programs": ("is_row", "is_book"),
+}
+
+BUILTINS = (
+    "len range enumerate zip min max sum abs sorted reversed int str bool bytes list tuple dict set frozenset "
+    "isinstance ord repr any all divmod iter next super property staticmethod classmethod Exception ValueError "
+    "TypeError KeyError IndexError LookupError ZeroDivisionError ArithmeticError OverflowError RuntimeError "
+    "NotImplementedError AttributeError StopIteration NotImplemented"
+).split()
+
+BARRED_WORDS = (
+    "type typing typing_extensions enum Enum IntEnum StrEnum Flag IntFlag Generic Protocol ABC ABCMeta namedtuple "
+    "NamedTuple TypedDict TYPE_CHECKING abstractmethod"
+).split()
+BARRED_NAMES = (
+    "register mro elements open input law version_info with_traceback add_note attrgetter breakpoint builtins compile "
+    "copyright credits delattr dir eval exec exit gc getattr globals hasattr help id importlib license locals "
+    "methodcaller os quit setattr type vars sys"
+).split()
+SPECIAL = ("__init__", "__eq__", "__repr__", "__str__", "__len__", "__enter__", "__exit__", "__call__", "__iter__")
+
+
+def bound_names(tree):
+    """Every name that a file gives to something."""
+    for node in ast.walk(tree):
+        if isinstance(node, (ast.FunctionDef, ast.ClassDef)):
+            yield node.name
+        elif isinstance(node, ast.arg):
+            yield node.arg
+        elif isinstance(node, ast.Name) and isinstance(node.ctx, ast.Store):
+            yield node.id
+        elif isinstance(node, ast.ImportFrom):
+            yield from [alias.asname or alias.name for alias in node.names]
+
+
+def defined_names(tree):
+    """The names that stand at module level, imports apart."""
+    for node in tree.body:
+        if isinstance(node, (ast.FunctionDef, ast.ClassDef)):
+            yield node.name
+        elif isinstance(node, ast.Assign):
+            yield from [target.id for target in node.targets]
+
+
+class Form(unittest.TestCase):
+    def each(self):
+        for path in FILES:
+            text = path.read_text(encoding="utf-8")
+            with self.subTest(path.name):
+                yield path, text, ast.parse(text)
+
+    def test_one_folder_of_files(self):
+        there = sorted(path.name for path in FOLDER.iterdir() if path.name != "__pycache__")
+        self.assertEqual(there, [path.name for path in FILES])
+        self.assertIn("__init__.py", there)
+        for name in there:
+            self.assertRegex(name, r"\A[a-z0-9_]+\.py\Z")
+            self.assertNotRegex(name, r"\A(test|law_|site|conftest)")
+
+    def test_sizes(self):
+        for path, text, tree in self.each():
+            lines = text.split("\n")
+            self.assertLessEqual(len(lines), 399)
+            self.assertLessEqual(max(len(line) for line in lines), 120)
+            for node in ast.walk(tree):
+                if isinstance(node, ast.FunctionDef):
+                    self.assertLessEqual(node.end_lineno - node.lineno + 1, 40, node.name)
+
+    def test_signs_and_words(self):
+        for path, text, tree in self.each():
+            self.assertRegex(text, r"\A[ -~\n]*\Z")
+            self.assertFalse(set(re.findall(r"\w+", text)) & set(BARRED_WORDS))
+            self.assertNotRegex(text, r"dataclass|overload|contextmanager")
+            for node in ast.walk(tree):
+                if isinstance(node, ast.Constant) and isinstance(node.value, str):
+                    self.assertNotIn("%", node.value)
+                self.assertFalse(isinstance(node, ast.Constant) and isinstance(node.value, float))
+
+    def test_names(self):
+        for path, text, tree in self.each():
+            for name in bound_names(tree):
+                self.assertTrue(not name.startswith("_") or name in SPECIAL, name)
+                self.assertNotIn(name, BARRED_NAMES)
+                self.assertNotIn(name, dir(builtins) if name not in SPECIAL else ())
+            for node in ast.walk(tree):
+                if isinstance(node, ast.Name) and node.id in dir(builtins):
+                    self.assertIn(node.id, BUILTINS)
+
+    def test_imports(self):
+        for path, text, tree in self.each():
+            for node in ast.walk(tree):
+                self.assertNotIsInstance(node, ast.Import)
+                if not isinstance(node, ast.ImportFrom):
+                    continue
+                self.assertIn(node, tree.body)
+                self.assertRegex(node.module, r"\Akinsignals\.[a-z0-9_]+\Z")
+                source = FOLDER / (node.module.split(".")[1] + ".py")
+                there = list(defined_names(ast.parse(source.read_text(encoding="utf-8"))))
+                for alias in node.names:
+                    self.assertIn(alias.name, there)
+
+    def test_module_level(self):
+        for path, text, tree in self.each():
+            names = list(defined_names(tree))
+            self.assertEqual(len(names), len(set(names)))
+            allowed = (ast.FunctionDef, ast.ClassDef, ast.Assign, ast.ImportFrom)
+            for at, node in enumerate(tree.body):
+                docstring = at == 0 and isinstance(node, ast.Expr) and isinstance(node.value, ast.Constant)
+                self.assertTrue(docstring or isinstance(node, allowed))
+
+    def test_the_interface_stands_in_its_files(self):
+        for name, wanted in INTERFACE.items():
+            tree = ast.parse((FOLDER / (name + ".py")).read_text(encoding="utf-8"))
+            there = list(defined_names(tree))
+            for word in wanted:
+                self.assertIn(word, there)
+
+
+if __name__ == "__main__":
+    unittest.main()
