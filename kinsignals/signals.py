@@ -7,6 +7,10 @@ SIGNALS = ("kill", "halt", "on", "hang", "quit", "call", "kin", "rest", "reads")
 # The sure signals are never masked, handled or let fall by a wish.
 SURE = ("kill", "halt")
 
+# What a signal that is handled plainly does to who gets it; those in neither do nothing more.
+ENDINGS = ("kill", "hang", "quit", "call")
+STOPS = ("halt", "rest", "reads")
+
 
 def is_signal(thing):
     """Whether thing is one of the nine signals."""
@@ -31,3 +35,8 @@ def are_loose(thing):
             return False
         least = place + 1
     return True
+
+
+def rising(signals):
+    """These signals, each once, in the order in which they rise."""
+    return tuple([signal for signal in SIGNALS if signal in signals])

@@ -19,3 +19,13 @@ def is_small(thing):
 def is_one_of(thing, words):
     """Whether thing is a text, and one of these words."""
     return isinstance(thing, str) and thing in words
+
+
+def is_name(thing):
+    """Whether thing has the form of a process's name: a tuple of numbers from 0."""
+    return isinstance(thing, tuple) and all([is_natural(part) for part in thing])
+
+
+def are_small(thing):
+    """Whether thing is a tuple of numbers from 0 to 99."""
+    return isinstance(thing, tuple) and all([is_small(part) for part in thing])

@@ -17,6 +17,14 @@ INTERFACE = {
     ),
     "signals": ("SIGNALS",),
     "programs": ("is_row", "is_book"),
+    "houses": ("House",),
+    "scripts": ("walk", "tale", "of_one"),
+    "showing": ("show_book",),
+}
+METHODS = {
+    "House": (
+        "__init__", "person", "names", "front", "typed", "sessions", "twin", "step", "__eq__", "__len__", "__str__",
+    ),
 }
 
 BUILTINS = (
@@ -35,6 +43,9 @@ BARRED_NAMES = (
     "copyright credits delattr dir eval exec exit gc getattr globals hasattr help id importlib license locals "
     "methodcaller os quit setattr type vars sys"
 ).split()
+# The methods of builtin values that are used here; the language knows more of them.
+BUILTIN_METHODS = ("append", "extend", "index", "join")
+TAKE_LISTS = ("any", "all", "min", "max", "sum", "sorted")
 SPECIAL = ("__init__", "__eq__", "__repr__", "__str__", "__len__", "__enter__", "__exit__", "__call__", "__iter__")
 
 
@@ -58,6 +69,36 @@ def defined_names(tree):
             yield node.name
         elif isinstance(node, ast.Assign):
             yield from [target.id for target in node.targets]
+
+
+def attributes(tree, context):
+    """The names of all attributes that are read, or assigned, in a file."""
+    for node in ast.walk(tree):
+        if isinstance(node, ast.Attribute) and isinstance(node.ctx, context):
+            yield node.attr
+
+
+def methods(tree):
+    for node in ast.walk(tree):
+        if isinstance(node, ast.ClassDef):
+            yield from [inner.name for inner in node.body if isinstance(inner, ast.FunctionDef)]
+
+
+def imported_names(tree):
+    for node in tree.body:
+        if isinstance(node, ast.ImportFrom):
+            yield from [(alias.name, node.module.split(".")[1]) for alias in node.names]
+
+
+def local_names(tree):
+    """The names of parameters and local variables."""
+    for node in ast.walk(tree):
+        if isinstance(node, ast.FunctionDef):
+            for inner in ast.walk(node):
+                if isinstance(inner, ast.arg):
+                    yield inner.arg
+                elif isinstance(inner, ast.Name) and isinstance(inner.ctx, ast.Store):
+                    yield inner.id
 
 
 class Form(unittest.TestCase):
@@ -132,6 +173,67 @@ class Form(unittest.TestCase):
             there = list(defined_names(tree))
             for word in wanted:
                 self.assertIn(word, there)
+
+    def test_the_methods_stand_in_their_class(self):
+        for path, text, tree in self.each():
+            for node in tree.body:
+                if isinstance(node, ast.ClassDef) and node.name in METHODS:
+                    there = [inner.name for inner in node.body if isinstance(inner, ast.FunctionDef)]
+                    self.assertEqual(len(there), len(set(there)))
+                    self.assertLessEqual(set(METHODS[node.name]), set(there))
+
+    def test_methods_and_attributes_are_apart(self):
+        trees = [tree for path, text, tree in self.each()]
+        own_methods = {name for tree in trees for name in methods(tree)}
+        assigned = {name for tree in trees for name in attributes(tree, ast.Store)}
+        read = {name for tree in trees for name in attributes(tree, ast.Load)}
+        self.assertFalse(own_methods & assigned)
+        self.assertLessEqual(read, own_methods | assigned | set(BUILTIN_METHODS))
+        self.assertFalse((own_methods | assigned) & set(BUILTIN_METHODS))
+        for name in own_methods:
+            self.assertTrue(name in SPECIAL or not name.startswith("_"), name)
+
+    def test_attributes_are_assigned_through_local_names(self):
+        for path, text, tree in self.each():
+            for node in ast.walk(tree):
+                if isinstance(node, ast.Attribute) and isinstance(node.ctx, ast.Store):
+                    self.assertIsInstance(node.value, ast.Name)
+
+    def test_local_names_are_no_imports_and_no_classes(self):
+        for path, text, tree in self.each():
+            taken = {name for name, file in imported_names(tree)}
+            taken |= {node.name for node in tree.body if isinstance(node, ast.ClassDef)}
+            self.assertFalse(taken & set(local_names(tree)))
+
+    def test_imports_are_used_and_lead_to_no_circle(self):
+        ways = {}
+        for path, text, tree in self.each():
+            used = {node.id for node in ast.walk(tree) if isinstance(node, ast.Name)}
+            self.assertLessEqual({name for name, file in imported_names(tree)}, used)
+            ways[path.stem] = {file for name, file in imported_names(tree)}
+        while ways:
+            free = [file for file in ways if not ways[file] & set(ways)]
+            self.assertTrue(free, ways)
+            for file in free:
+                del ways[file]
+
+    def test_expressions(self):
+        barred = (
+            ast.Global, ast.Nonlocal, ast.Lambda, ast.SetComp, ast.Set, ast.Div, ast.AsyncFunctionDef, ast.Await, ast.Try,
+            ast.With, ast.Match, ast.Yield, ast.YieldFrom, ast.NamedExpr, ast.Global, ast.AnnAssign,
+        )
+        for path, text, tree in self.each():
+            for node in ast.walk(tree):
+                # Some of these the language allows in places; nothing here needs them.
+                self.assertNotIsInstance(node, barred)
+                if isinstance(node, ast.Compare):
+                    for sign, other in zip(node.ops, node.comparators):
+                        if isinstance(sign, (ast.Is, ast.IsNot)):
+                            self.assertIn(ast.unparse(other), ("None", "True", "False"))
+                if isinstance(node, ast.Call) and isinstance(node.func, ast.Name) and node.func.id in TAKE_LISTS:
+                    self.assertFalse([inner for inner in node.args if isinstance(inner, ast.GeneratorExp)])
+                if isinstance(node, ast.FunctionDef):
+                    self.assertEqual(node.decorator_list, [])
 
 
 if __name__ == "__main__":
