@@ -71,15 +71,28 @@ def read_in_front(house, name):
     return [("read", name, queue[0])]
 
 
-def do_read(house, name, row):
+def is_in_front(house, person):
+    return house.fronts[person.session] == person.group
+
+
+def called_by_read(house, name):
+    """The names of those to whom a read out of front sends reads, rising; none where it lacks."""
     person = house.people[name]
-    if house.fronts[person.session] == person.group:
-        return read_in_front(house, name)
     deaf = "reads" in person.mask or handling(person, "reads") == "ignore"
     if deaf or name == () or is_orphan(house, person.group):
+        return []
+    return living_in(house, person.group)
+
+
+def do_read(house, name, row):
+    person = house.people[name]
+    if is_in_front(house, person):
+        return read_in_front(house, name)
+    names = called_by_read(house, name)
+    if len(names) == 0:
         return lack(name, person)
     # The row is not done, so it stays the next one and last stays, too.
-    return send_each(house, living_in(house, person.group), "reads")
+    return send_each(house, names, "reads")
 
 
 GROUP_ROWS = {

@@ -7,6 +7,8 @@ from kinsignals.showing import house_rows
 from kinsignals.steps import is_call, take_step
 from kinsignals.values import are_small, is_name
 
+SMALLEST_BOOK = (("a", (("pause",),)),)
+
 
 def state_of(house):
     """All by which two houses are equal or not."""
@@ -63,7 +65,10 @@ class House:
 
     def twin(self):
         """A house of its own with the same."""
-        other = House(self.book, self.book[0][0])
+        # The book was looked over when this house was made; that need not be done for each twin.
+        other = House(SMALLEST_BOOK, "a")
+        other.book = self.book
+        other.programs = self.programs
         other.people = {name: copied(self.people[name]) for name in self.people}
         other.fronts = {name: self.fronts[name] for name in self.fronts}
         other.queues = {name: self.queues[name] for name in self.queues}

@@ -35,18 +35,31 @@ def do_row(house, name):
     return doing(house, name, row)
 
 
+def signal_due(person):
+    """The signal that a process's next step delivers, None where it delivers none."""
+    # One that has ended holds nothing, and kill is never masked; a stopped one gets no other signal.
+    if person.how == "stopped":
+        return "kill" if "kill" in person.held else None
+    ready = [signal for signal in person.held if signal not in person.mask]
+    return ready[0] if len(ready) > 0 else None
+
+
+def row_due(house, name):
+    """The row that a process's next step does, None where it does no row."""
+    person = house.people[name]
+    if person.how != "runs" or signal_due(person) is not None:
+        return None
+    return next_row(house, person)
+
+
 def step_one(house, name):
     """A process steps."""
     person = house.people[name]
-    if person.how == "ended":
-        return [("idle", name, "ended")]
-    if "kill" in person.held:
-        return deliver(house, name, "kill")
-    if person.how == "stopped":
-        return [("idle", name, "stopped")]
-    ready = [signal for signal in person.held if signal not in person.mask]
-    if len(ready) > 0:
-        return deliver(house, name, ready[0])
+    signal = signal_due(person)
+    if signal is not None:
+        return deliver(house, name, signal)
+    if person.how != "runs":
+        return [("idle", name, person.how)]
     return do_row(house, name)
 
 

@@ -19,6 +19,9 @@ INTERFACE = {
     "programs": ("is_row", "is_book"),
     "houses": ("House",),
     "scripts": ("walk", "tale", "of_one"),
+    "stillness": ("why", "still", "chain"),
+    "touching": ("touched", "meet"),
+    "reaching": ("reached", "script_to", "stills", "MOST"),
     "showing": ("show_book",),
 }
 METHODS = {
