@@ -1,4 +1,4 @@
-"""Texts of books and of houses."""
+"""Texts of books, of houses and of events."""
 
 from kinsignals.errors import NoBook
 from kinsignals.programs import is_book
@@ -79,6 +79,22 @@ def house_rows(house):
     """The rows of a house's text: its sessions, then who is there."""
     sessions = [session_row(name, house.fronts[name], house.queues[name]) for name in house.sessions()]
     return sessions + [person_row(name, house.people[name]) for name in house.names()]
+
+
+def show_thing(thing):
+    """A thing of an event: a name, a number or a word."""
+    return show_name(thing) if isinstance(thing, tuple) else str(thing)
+
+
+def show_event(event):
+    # A mask is the one tuple in an event that is no name.
+    if event[0] == "mask":
+        return f"mask {show_name(event[1])} {show_signals(event[2])}"
+    return " ".join([show_thing(thing) for thing in event])
+
+
+def show_events(events):
+    return " ; ".join([show_event(event) for event in events]) if len(events) > 0 else "-"
 
 
 def wait_words(row):

@@ -88,8 +88,8 @@ def touch_step(cells, house, name):
         touch(cells, ("mail", name, signal), "write")
     row = row_due(house, name)
     if row is not None and row[0] in WIDE_ROWS:
-        touching = WIDE_ROWS[row[0]]
-        touching(cells, house, name, row)
+        doing = WIDE_ROWS[row[0]]
+        doing(cells, house, name, row)
 
 
 def touch_key(cells, house, session, signal):

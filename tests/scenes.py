@@ -112,6 +112,20 @@ def parted(first, child, typed=(), **others):
     return grown(Node(first, Node(child)), typed, **others)
 
 
+def says(many):
+    return [("say", 1)] * many
+
+
+def line_of(many):
+    """A house of one process, of which just so many houses come: each row leads to one more."""
+    return house_of(*says(many - 1))
+
+
+def ever_more():
+    """One that has ever more children, each of which it waits for."""
+    return house_of(("fork",), ("if", 0, 4), ("wait", None, False), ("goto", 0), ("end", 0))
+
+
 class Case(unittest.TestCase):
     def takes(self, house, entry, events, changes=None):
         """The entry's step tells just these events, and changes just this."""

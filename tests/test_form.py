@@ -22,12 +22,17 @@ INTERFACE = {
     "stillness": ("why", "still", "chain"),
     "touching": ("touched", "meet"),
     "reaching": ("reached", "script_to", "stills", "MOST"),
+    "reachlooks": ("shows_reached",),
+    "rebuilding": ("rebuilt", "counted"),
     "showing": ("show_book",),
+    "reading": ("read_book",),
+    "desk": ("Desk", "KEPT"),
 }
 METHODS = {
     "House": (
         "__init__", "person", "names", "front", "typed", "sessions", "twin", "step", "__eq__", "__len__", "__str__",
     ),
+    "Desk": ("__init__", "say", "say_all", "log"),
 }
 
 BUILTINS = (
@@ -47,7 +52,7 @@ BARRED_NAMES = (
     "methodcaller os quit setattr type vars sys"
 ).split()
 # The methods of builtin values that are used here; the language knows more of them.
-BUILTIN_METHODS = ("append", "extend", "index", "join")
+BUILTIN_METHODS = ("append", "count", "extend", "index", "join", "replace", "split", "startswith")
 TAKE_LISTS = ("any", "all", "min", "max", "sum", "sorted")
 SPECIAL = ("__init__", "__eq__", "__repr__", "__str__", "__len__", "__enter__", "__exit__", "__call__", "__iter__")
 
@@ -220,9 +225,37 @@ class Form(unittest.TestCase):
             for file in free:
                 del ways[file]
 
+    def test_only_own_refusals_are_caught_and_raised(self):
+        for path, text, tree in self.each():
+            for node in ast.walk(tree):
+                if isinstance(node, ast.ExceptHandler):
+                    self.assertIn(ast.unparse(node.type), INTERFACE["errors"])
+                if isinstance(node, ast.Raise) and node.exc is not None:
+                    self.assertIsInstance(node.exc, ast.Call)
+                    self.assertIn(ast.unparse(node.exc.func), INTERFACE["errors"])
+                if isinstance(node, ast.Try):
+                    # Of what may stand behind finally nothing is needed but a word put behind others.
+                    for last in node.finalbody:
+                        self.assertRegex(ast.unparse(last), r"\Aself\.[a-z]+\.append\('[a-z]+'\)\Z")
+
+    def test_tables_hold_what_stands_above_them(self):
+        """A table at module level holds plain values, tuples of these, and functions of its own file."""
+        for path, text, tree in self.each():
+            above = set()
+            for node in tree.body:
+                if isinstance(node, ast.FunctionDef):
+                    above.add(node.name)
+                if isinstance(node, ast.Assign):
+                    for inner in ast.walk(node.value):
+                        self.assertIsInstance(inner, (
+                            ast.Constant, ast.Tuple, ast.Dict, ast.Name, ast.Load, ast.UnaryOp, ast.USub,
+                        ))
+                        if isinstance(inner, ast.Name):
+                            self.assertIn(inner.id, above)
+
     def test_expressions(self):
         barred = (
-            ast.Global, ast.Nonlocal, ast.Lambda, ast.SetComp, ast.Set, ast.Div, ast.AsyncFunctionDef, ast.Await, ast.Try,
+            ast.Global, ast.Nonlocal, ast.Lambda, ast.SetComp, ast.Set, ast.Div, ast.AsyncFunctionDef, ast.Await,
             ast.With, ast.Match, ast.Yield, ast.YieldFrom, ast.NamedExpr, ast.Global, ast.AnnAssign,
         )
         for path, text, tree in self.each():

@@ -10,24 +10,9 @@ from kinsignals.houses import House
 from kinsignals.reaching import MOST, reached, script_to, stills
 from kinsignals.scripts import walk
 from kinsignals.stillness import still
-from scenes import Case, Node, book_of, grown, house_of, parted, picture, run
+from scenes import Case, Node, book_of, ever_more, grown, house_of, line_of, parted, picture, run, says
 
 P, C, D = (), (0,), (1,)
-
-
-def says(many):
-    return [("say", 1)] * many
-
-
-def line_of(many, typed=()):
-    """A house of one process, of which just so many houses come: each row leads to one more."""
-    sizes = [min(40, many - 1 - at) for at in range(0, many - 1, 40)]
-    titles = "abcdefghijklmnop"
-    programs = {}
-    for at, size in enumerate(sizes):
-        last = at == len(sizes) - 1
-        programs[titles[at]] = says(size) if last else [*says(size - 1), ("exec", titles[at + 1])]
-    return House(book_of(**programs), "a", typed=typed)
 
 
 def pair_of(ahead, one, other):
@@ -40,11 +25,6 @@ def pair_of(ahead, one, other):
 def count_of_pair(ahead, one, other):
     # Ahead of the fork, then each place of the one (its if, its rows, its pause) with each of the other one.
     return ahead + 1 + (one + 2) * (other + 2)
-
-
-def ever_more():
-    """One that has ever more children, each of which it waits for."""
-    return house_of(("fork",), ("if", 0, 4), ("wait", None, False), ("goto", 0), ("end", 0))
 
 
 def houses_by_looking(house, most=500):
