@@ -38,14 +38,14 @@ def read_row(words):
 
 
 def lacks_rows(programs):
-    """Whether a row must come: there is no program yet, or the last one has none."""
-    return len(programs) == 0 or len(programs[-1][1]) == 0
+    """Whether the last program has no rows yet."""
+    return len(programs) > 0 and len(programs[-1][1]) == 0
 
 
 def add_program(programs, words, at):
     """Begins a program with the words behind its first one."""
     parts = read_words(("title",), words)
-    if parts is None or len(programs) > 0 and lacks_rows(programs):
+    if parts is None or lacks_rows(programs):
         raise NoText(at)
     programs.append((parts[0], []))
 
@@ -67,6 +67,7 @@ def read_programs(lines):
             add_program(programs, words[1:], at)
         else:
             add_row(programs, words, at)
+    # Each text has a row, if an empty one, so that there is a program here.
     if lacks_rows(programs):
         raise NoText(len(lines))
     return programs

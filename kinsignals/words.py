@@ -80,7 +80,6 @@ READERS = {
     "whole": read_whole,
     "name": read_name,
     "signal": read_signal,
-    "loose": read_signal,
     "signals": read_signals,
 }
 
