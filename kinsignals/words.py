@@ -1,6 +1,6 @@
 """Words of texts, read: numbers, names, titles, signals."""
 
-from kinsignals.signals import SIGNALS, rising
+from kinsignals.signals import SIGNALS
 
 FIGURES = "0123456789"
 MOST_FIGURES = 9
@@ -59,11 +59,11 @@ def read_signal(word):
 
 
 def read_signals(word):
-    """Signals as they rise; whether some are sure is asked elsewhere."""
+    """Signals with , between; whether they rise, and whether some are sure, is asked elsewhere."""
     if word == "-":
         return ()
     signals = tuple(word.split(","))
-    return signals if signals == rising(signals) else None
+    return signals if all([signal in SIGNALS for signal in signals]) else None
 
 
 def read_choice(kind, word):

@@ -141,6 +141,10 @@ class Lines(Case):
             self.refused(NoBook, desk, "book program a ; end 100")
             self.refused(NoBook, desk, "book program abcdefghi ; fork")
             self.refused(NoBook, desk, "book program b ; fork ; program a ; fork")
+            self.refused(NoBook, desk, "book program a ; mask kin,on")
+            self.refused(NoBook, desk, "book program a ; handle on 0 call,call")
+            self.refused(NoText, desk, "book program a ; mask kin,on ; fork on", row=2)
+            self.refused(NoText, desk, "book program a ; mask kin,off", row=1)
 
     def test_a_new_book_leaves_the_house(self):
         desk = self.desk(BOOK, "house a", "step /")

@@ -80,10 +80,10 @@ WRONG_ROWS = [
     "send call 0.1", "send call /", "send call self self",
     "mask", "mask  ", "mask ~", "mask ()", "mask call hang", "mask call,", "mask ,call", "mask hang,,call", "mask ,", "mask calls",
     "mask call;hang", "mask -,call", "mask -call", "mask hang, call", "mask 0", "mask any",
-    "mask call,hang", "mask reads,rest,kin,call,quit,hang,on", "mask call,call", "mask hang,call,hang", "unmask rest,kin",
-    "unmask", "unmask call,", "unmask ~", "unmask call hang",
+    "mask kin,off", "mask kin,kin,", "mask ,kin,on", "mask kin,,on", "mask kin,-", "mask kin,On", "mask kin, on", "mask kin;on",
+    "unmask", "unmask call,", "unmask ~", "unmask call hang", "unmask reads,rests", "unmask reads,,rest",
     "handle", "handle call", "handle call default", "handle call plain -", "handle call ignore -", "handle call plain plain",
-    "handle call 0", "handle call - 0", "handle call 0 ~", "handle call 0 call,hang", "handle call 0 call,call", "handle call 0 -,-",
+    "handle call 0", "handle call - 0", "handle call 0 ~", "handle call 0 kin,off", "handle call 0 kin,,on", "handle call 0 -,-",
     "handle call 0 call,", "handle call 01 -", "handle call -1 -", "handle call 1234567890 -", "handle call a -", "handle calls plain",
     "handle - plain", "handle call,hang plain", "handle plain call", "handle call 0:-", "handle call 0 - -", "handle 0 call -",
     "group", "group self", "group new", "group new self", "group self old", "group self 0", "group parent new", "group -1 new",
@@ -92,6 +92,15 @@ WRONG_ROWS = [
     "goto", "goto -1", "goto -", "goto 01", "goto 1234567890", "goto a", "goto 1 2", "goto " + "9" * 5000,
     "if", "if 1", "if 1 2 3", "if -0 1", "if 1 -1", "if --1 1", "if - 1", "if -01 1", "if 01 1", "if +1 1", "if a 1", "if ~ 1",
     "if 1234567890 1", "if -1234567890 1", "if 1 01", "if 1- 1", "if -a 1", "if " + "-" + "1" * 4400 + " 1", "if 1 1234567890",
+]
+
+# Rows that have their form, with signals turned about or twice.
+TURNED_ROWS = [
+    "mask kin,on", "mask call,call", "mask call,hang", "mask on,hang,on", "mask hang,call,hang", "mask on,on,hang", "mask on,hang,hang",
+    "mask reads,rest,kin,call,quit,hang,on", "mask on,kill", "mask kill,kill", "mask halt,kill", "mask " + ",".join(["kin"] * 40),
+    "unmask reads,rest", "unmask rest,kin", "unmask call,call", "unmask on,halt",
+    "handle on 0 call,call", "handle call 0 kin,on", "handle call 0 call,hang", "handle call 0 on,hang,on", "handle call 0 on,kill",
+    "handle kill 0 kin,on", "handle call 10 kin,on",
 ]
 
 
@@ -231,6 +240,32 @@ class Refused(unittest.TestCase):
         ):
             self.refuses(AHEAD + row + BEHIND, None)
             self.refuses(AHEAD + row + BEHIND + "\nforks", 11)
+
+    def test_signals_that_do_not_rise_make_no_book(self):
+        """Each word between the commas is a signal, so the row has its form; that they rise is asked of a book."""
+        for row in TURNED_ROWS:
+            self.refuses(AHEAD + row + BEHIND, None)
+            self.refuses(AHEAD + "fork\n" + row, None)
+            # What is wrong by its form is told first, wherever it stands.
+            self.refuses(AHEAD + row + BEHIND + "\nforks", 11)
+            self.refuses(AHEAD + row + "\nfork on", 2)
+            self.refuses(AHEAD + row + "\nmask kin,off", 2)
+            self.refuses(AHEAD + row + "\nprogram b", 3)
+            self.refuses(AHEAD + row + "\nprogram b\nprogram c\nfork", 3)
+            self.refuses(AHEAD + row + " -", 1)
+            self.refuses(row, 0)
+            self.refuses(row + "\nprogram a\nfork", 0)
+
+    def test_every_two_signals(self):
+        """Just those that rise, and of which none is sure, are read; all others make no book."""
+        for row in ("mask {}", "unmask {}", "handle call 0 {}"):
+            for first, one in enumerate(SIGNALS):
+                for second, other in enumerate(SIGNALS):
+                    text = AHEAD + row.format(one + "," + other)
+                    if 2 <= first < second:
+                        self.assertEqual(show_book(read_book(text)), text)
+                    else:
+                        self.refuses(text, None)
 
     def test_titles_that_make_no_book(self):
         self.refuses("program abcdefghi\nfork", None)
